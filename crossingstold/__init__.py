@@ -1,0 +1,1 @@
+"""Crossingstold: alerts for moving things, each moment exactly."""

@@ -1,0 +1,42 @@
+"""What several functions ask of their values: each function here raises its error, or does nothing."""
+from crossingstold.cuts import are_stretches
+from crossingstold.errors import BadFraction, BadLength, BadMoment, BadPoint, BadRegion, BadStretches
+from crossingstold.plain import is_fraction, is_from_zero, is_point
+from crossingstold.shapes import is_region
+from crossingstold.surds import is_moment
+
+
+def need_fraction(value):
+    """BadFraction unless value is a FRACTION."""
+    if not is_fraction(value):
+        raise BadFraction(value)
+
+
+def need_length(value):
+    """BadLength unless value is a LENGTH."""
+    if not is_from_zero(value):
+        raise BadLength(value)
+
+
+def need_point(value):
+    """BadPoint unless value is a POINT."""
+    if not is_point(value):
+        raise BadPoint(value)
+
+
+def need_moment(value):
+    """BadMoment unless value is a MOMENT."""
+    if not is_moment(value):
+        raise BadMoment(value)
+
+
+def need_stretches(value):
+    """BadStretches unless value is STRETCHES."""
+    if not are_stretches(value):
+        raise BadStretches(value)
+
+
+def need_region(value):
+    """BadRegion unless value is a REGION."""
+    if not is_region(value):
+        raise BadRegion(value)
