@@ -83,14 +83,13 @@ def region_from(tree, deep):
 def read_shape(text):
     """The REGION whose text this is; None if there is none."""
     region = region_from(tree_in(text), 1)
-    # The tree does not tell each blank: so the text is told once more.
-    if is_region(region) and words_of_region(region) == text:
+    if is_region(region):
         return region
     return None
 
 
 def turn(one, two, three):
-    """A FRACTION above 0 if the way by these POINTS turns against the clock, below 0 if with it, 0 if it is straight."""
+    """A FRACTION: above 0 if the way by three POINTS turns against the clock, 0 if it is straight."""
     across = times(minus(two[0], one[0]), minus(three[1], one[1]))
     return minus(across, times(minus(two[1], one[1]), minus(three[0], one[0])))
 

@@ -1,5 +1,5 @@
 """STRETCHES: all moments of which something is so, in their one form."""
-from crossingstold.cuts import are_stretches, combined, cut_order, is_run, is_stretch, run_of, runs_of, united
+from crossingstold.cuts import are_stretches, combined, cut_order, is_run, is_stretch, runs_of, united
 from crossingstold.errors import BadStretches
 from crossingstold.needs import need_fraction, need_length, need_moment, need_stretches
 from crossingstold.surds import moment_order, moved_on

@@ -97,6 +97,7 @@ def tree_in(text):
     if not isinstance(text, str):
         return None
     opened = [[]]
+    # A blank too many leaves an empty word, and one too few a word with a bracket in it: unlike texts, unlike trees.
     for word in text.replace("(", "( ").replace(")", " )").split(" "):
         if word == "(":
             opened.append([])

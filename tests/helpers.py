@@ -51,6 +51,12 @@ NO_FRACTIONS = NEVER + NEARLY_FRACTIONS + NEARLY_ROOTS + [(1, 0, -2, 1), (1, 0, 
 NO_MOMENTS = NEVER + NEARLY_FRACTIONS + NEARLY_ROOTS
 NO_LENGTHS = NO_FRACTIONS + [(-1, 1), (-1, 2)]
 
+NO_POINTS = NEVER + [
+    (1, 1), (1, 0, -2, 1), ((1, 1),), ((1, 1), (1, 1), (1, 1)), ((1, 1), 1), (1, (1, 1)), ((1, 1), (2, 2)), ((2, 2), (1, 1)),
+    ((1, 1), (1, 0)), ((1, -1), (1, 1)), [(1, 1), (1, 1)], ([1, 1], (1, 1)), ((1, 1), [1, 1]), ((1, 0, -2, 1), (1, 1)),
+    ((1, 1), (1, 0, -2, 1)), ((1, 1), None), (("1", 1), (1, 1)), ((True, 1), (1, 1)), ((1, 1), (1, True)),
+]
+
 
 def number(top, bottom=1):
     """A FRACTION, the bottom a plain one."""

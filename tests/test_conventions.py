@@ -4,7 +4,7 @@ import itertools
 import unittest
 
 from crossingstold import moments, regions, stretches
-from tests.helpers import NEVER, NO_FRACTIONS, NO_LENGTHS, NO_MOMENTS, Thing, deep, refused
+from tests.helpers import NEVER, NO_FRACTIONS, NO_LENGTHS, NO_MOMENTS, NO_POINTS, Thing, deep, refused
 
 ROOT = (1, 0, -2, 1)
 LATE = (((0, 1), True, (1, 1), False), ((1, 1), False, (2, 1), True))
@@ -30,12 +30,6 @@ NO_STRETCHES = [value for value in NEVER if value != () and value != ""] + [
     (((0, 1), False, (1, 1), False), ((1, 1), True, (1, 1), True)),
     (((1, 1), True, (1, 1), True), ((1, 1), False, (2, 1), False)),
     (((0, 1), True, ROOT, False), (ROOT, True, (2, 1), True)), "[0, 1]", ["[0, 1]"],
-]
-
-NO_POINTS = NEVER + [
-    (1, 1), ROOT, ((1, 1),), ((1, 1), (1, 1), (1, 1)), ((1, 1), 1), (1, (1, 1)), ((1, 1), (2, 2)), ((2, 2), (1, 1)),
-    ((1, 1), (1, 0)), ((1, -1), (1, 1)), [(1, 1), (1, 1)], ([1, 1], (1, 1)), ((1, 1), [1, 1]), (ROOT, (1, 1)),
-    ((1, 1), ROOT), ((1, 1), None), (("1", 1), (1, 1)), ((True, 1), (1, 1)), ((1, 1), (1, True)),
 ]
 
 NO_REGIONS = NEVER + [

@@ -206,6 +206,18 @@ class Moving(unittest.TestCase):
                 told = shifted(told, (-1, bottom))
             self.assertEqual(told, moment)
 
+    def test_many_scalings_there_and_back(self):
+        factors = [(top, 10 ** 9 - 1 - top) for top in range(10 ** 8 + 1, 10 ** 8 + 400, 2) if top % 3]
+        for moment in (HIGH, (1, -1, -1, -1), (-5, 7)):
+            told = moment
+            for top, bottom in factors:
+                told = scaled(told, number(-top, bottom))
+            self.assertEqual(compared(told, (0, 1)), compared(moment, (0, 1)) * (-1) ** len(factors))
+            self.assertEqual(read_moment(moment_text(told)), told)
+            for top, bottom in factors:
+                told = scaled(told, number(-bottom, top))
+            self.assertEqual(told, moment)
+
     def test_texts_of_great_numbers(self):
         for figures in (1, 63, 64, 65, 127, 128, 129, 640, 4300):
             for top in (10 ** figures, 10 ** figures - 1, 7 * 10 ** (figures - 1) + 1):
