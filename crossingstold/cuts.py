@@ -106,3 +106,26 @@ def combined(one, other, wanted):
         if wanted(at % 2 == 1, to % 2 == 1) != (len(told) % 2 == 1):
             told.append(cut)
     return stretches_from([(told[first], told[first + 1]) for first in range(0, len(told), 2)])
+
+
+def in_both(one, other):
+    """The STRETCHES of all moments in both."""
+    return combined(one, other, lambda in_one, in_other: in_one and in_other)
+
+
+def in_one_alone(one, other):
+    """The STRETCHES of all moments in the first and not in the other one."""
+    return combined(one, other, lambda in_one, in_other: in_one and not in_other)
+
+
+def in_all(lots):
+    """The STRETCHES of all moments in each of these STRETCHES, one at least."""
+    told = lots[0]
+    for stretches in lots[1:]:
+        told = in_both(told, stretches)
+    return told
+
+
+def in_any(lots):
+    """The STRETCHES of all moments in one of these STRETCHES at least."""
+    return united([run for stretches in lots for run in runs_of(stretches)])

@@ -1,6 +1,9 @@
 """What several functions ask of their values: each function here raises its error, or does nothing."""
 from crossingstold.cuts import are_stretches
-from crossingstold.errors import BadFraction, BadLength, BadMoment, BadPoint, BadRegion, BadStretches
+from crossingstold.errors import (
+    BadFraction, BadLength, BadMoment, BadPoint, BadRegion, BadRule, BadSquare, BadStretches, BadThings, BadWatch,
+    BadWay)
+from crossingstold.kinds import are_things, is_rule, is_watch, is_way
 from crossingstold.plain import is_fraction, is_from_zero, is_point
 from crossingstold.shapes import is_region
 from crossingstold.surds import is_moment
@@ -16,6 +19,12 @@ def need_length(value):
     """BadLength unless value is a LENGTH."""
     if not is_from_zero(value):
         raise BadLength(value)
+
+
+def need_square(value):
+    """BadSquare unless value is a SQUARE."""
+    if not is_from_zero(value):
+        raise BadSquare(value)
 
 
 def need_point(value):
@@ -40,3 +49,27 @@ def need_region(value):
     """BadRegion unless value is a REGION."""
     if not is_region(value):
         raise BadRegion(value)
+
+
+def need_way(value):
+    """BadWay unless value is a WAY."""
+    if not is_way(value):
+        raise BadWay(value)
+
+
+def need_things(value):
+    """BadThings unless value is THINGS."""
+    if not are_things(value):
+        raise BadThings(value)
+
+
+def need_watch(value):
+    """BadWatch unless value is a WATCH."""
+    if not is_watch(value):
+        raise BadWatch(value)
+
+
+def need_rule(value):
+    """BadRule unless value is a RULE."""
+    if not is_rule(value):
+        raise BadRule(value)

@@ -62,6 +62,11 @@ def times(one, other):
     return lowest(one[0] * other[0], one[1] * other[1])
 
 
+def over(one, other):
+    """The one FRACTION through the other one, which is not 0."""
+    return lowest(one[0] * other[1], one[1] * other[0])
+
+
 def fraction_order(one, other):
     """-1, 0 or 1: whether the one FRACTION is below the other one, the same, above it."""
     return sign(one[0] * other[1] - other[0] * one[1])

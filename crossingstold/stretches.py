@@ -1,5 +1,6 @@
 """STRETCHES: all moments of which something is so, in their one form."""
-from crossingstold.cuts import are_stretches, combined, cut_order, is_run, is_stretch, runs_of, united
+from crossingstold.cuts import (
+    are_stretches, cut_order, in_any, in_both, in_one_alone, is_run, is_stretch, runs_of, united)
 from crossingstold.errors import BadStretches
 from crossingstold.needs import need_fraction, need_length, need_moment, need_stretches
 from crossingstold.surds import moment_order, moved_on
@@ -29,21 +30,21 @@ def joined(one, other):
     """The STRETCHES of all moments in one of both at least."""
     need_stretches(one)
     need_stretches(other)
-    return united(runs_of(one) + runs_of(other))
+    return in_any((one, other))
 
 
 def both(one, other):
     """The STRETCHES of all moments in both."""
     need_stretches(one)
     need_stretches(other)
-    return combined(one, other, lambda in_one, in_other: in_one and in_other)
+    return in_both(one, other)
 
 
 def less(one, other):
     """The STRETCHES of all moments in the first and not in the other one."""
     need_stretches(one)
     need_stretches(other)
-    return combined(one, other, lambda in_one, in_other: in_one and not in_other)
+    return in_one_alone(one, other)
 
 
 def put_off(stretches, by):

@@ -75,6 +75,16 @@ def moment_order(one, other):
     return sign_with_roots(x * m - z * k, y * m, d, -v * k, e)
 
 
+def earlier(one, other):
+    """The lesser one of two MOMENTS."""
+    return one if moment_order(one, other) <= 0 else other
+
+
+def later(one, other):
+    """The greater one of two MOMENTS."""
+    return one if moment_order(one, other) >= 0 else other
+
+
 def form_sign(a, b, c, moment):
     """The sign of a t t + b t + c, t being the MOMENT."""
     x, y, d, k = surd_of(moment)

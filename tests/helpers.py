@@ -1,5 +1,6 @@
-"""What several tests need: refused calls, and values of every kind."""
+"""What several tests need: refused calls, values of every kind, REGIONS by Python's own fractions."""
 from decimal import Decimal, localcontext
+from fractions import Fraction
 
 DIGITS = 300
 
@@ -60,7 +61,6 @@ NO_POINTS = NEVER + [
 
 def number(top, bottom=1):
     """A FRACTION, the bottom a plain one."""
-    from fractions import Fraction
     told = Fraction(top, bottom)
     return (told.numerator, told.denominator)
 
@@ -83,3 +83,62 @@ def order_of(one, other):
         if abs(far) < Decimal(10) ** -150:
             return 0
         return 1 if far > 0 else -1
+
+
+def spot(x, y):
+    """A POINT of integers or of Python's own fractions."""
+    return (number(x), number(y))
+
+
+def worth(fraction):
+    """A FRACTION as one of Python's own."""
+    return Fraction(*fraction)
+
+
+def inside(region, x, y):
+    """Whether a POINT lies in a REGION, by Python's own fractions."""
+    word, *inner = region
+    if word == "half":
+        return inner[0] * x + inner[1] * y <= inner[2]
+    if word == "disc":
+        left, up = [worth(fraction) for fraction in inner[0]]
+        return (x - left) ** 2 + (y - up) ** 2 <= worth(inner[1])
+    found = [inside(part, x, y) for part in inner]
+    return {"and": all(found), "or": any(found), "not": not found[0]}[word]
+
+
+def random_region(chance, deep, leaves):
+    """A REGION at most so deep, with at most so many halves and discs."""
+    word = chance.choice(["half", "disc"]) if deep == 1 else chance.choice(["half", "disc", "and", "or", "not", "and"])
+    if word == "half":
+        a, b = 0, 0
+        while a == b == 0:
+            a, b = chance.randint(-3, 3), chance.randint(-3, 3)
+        return (word, a, b, chance.randint(-6, 6))
+    if word == "disc":
+        return (word, tuple([number(chance.randint(-6, 6), chance.randint(1, 3)) for _ in range(2)]),
+                number(chance.choice([0, 1, 2, 4, 5, 9, 25]), chance.choice([1, 1, 4])))
+    if word == "not":
+        return (word, random_region(chance, deep - 1, leaves))
+    many = chance.randint(1, min(3, leaves))
+    return (word, *[random_region(chance, deep - 1, leaves // many) for _ in range(many)])
+
+
+def shown_wrong(test, function, value, *others, name="BadRegion"):
+    """That the function raises this error with the very value."""
+    with test.assertRaises(ValueError, msg=value) as caught:
+        function(value, *others)
+    test.assertEqual(type(caught.exception).__name__, name, value)
+    test.assertIs(caught.exception.value, value)
+
+
+def text_of(region):
+    """The text of what is a REGION, or nearly one."""
+    word, *inner = region
+    if word == "half":
+        told = [str(n) for n in inner]
+    elif word == "disc":
+        told = [str(worth(fraction)) for fraction in (*inner[0], inner[1])]
+    else:
+        told = [text_of(part) for part in inner]
+    return "(" + " ".join([word, *told]) + ")"

@@ -3,7 +3,7 @@ import copy
 import itertools
 import unittest
 
-from crossingstold import moments, regions, stretches
+from crossingstold import events, moments, reasons, regions, rules, stretches, ways
 from tests.helpers import NEVER, NO_FRACTIONS, NO_LENGTHS, NO_MOMENTS, NO_POINTS, Thing, deep, refused
 
 ROOT = (1, 0, -2, 1)
@@ -50,6 +50,65 @@ NO_PATCHES = NEVER + [
     ((0, 0), (4, 0), (4, 2)), (((0, 1), (0, 1)), ((4, 1), (0, 1)), ((4, 2), (2, 1))), (PATCH,), ROOT, (*PATCH[:2], ROOT),
 ]
 
+VAN = (((0, 1), SPOT), ((2, 1), ((5, 1), (2, 1))), ((6, 1), ((5, 1), (0, 1))))
+REPORTS = tuple([((n, 1), ((n * n, 1), (n, 1))) for n in range(14)])
+THINGS = (("cart", REPORTS[:12]), ("van", VAN))
+WATCH = ((0, 1), (9, 1))
+INSIDE = ("in", "van", DISC)
+NEAR = ("near", "van", "cart", (1, 4))
+RULE = ("or", INSIDE, ("lately", (1, 2), NEAR))
+RULES = (("out", ("not", RULE)), ("in", RULE))
+EVENT = (ROOT, "van", "begins", False)
+
+NO_SQUARES = NO_LENGTHS
+
+NO_NAMES = [
+    "", "Van", "vaN", "1van", "ninesigns", "va n", "va_n", "va-n", " van", "van ", "van\n", None, 1, True, ("v",), ["v"], b"van", (), "VAN",
+]
+
+NO_WAYS = NEVER + [
+    SPOT, ROOT, VAN[0], (VAN,), list(VAN), VAN[:1], REPORTS[:1], REPORTS[:13], REPORTS, (*VAN, None), VAN[::-1], (VAN[0], VAN[0]),
+    (VAN[0], VAN[2], VAN[1]), (*VAN, VAN[2]), (*VAN, VAN[0]), (VAN[0], list(VAN[1])), (VAN[0], VAN[1][:1]), (VAN[0], (*VAN[1], None)),
+    (VAN[0], (2, VAN[1][1])), (VAN[0], ((2, 1), (5, 2))), (VAN[0], (ROOT, SPOT)), (VAN[0], ((4, 2), SPOT)), (VAN[0], ([2, 1], SPOT)),
+    (VAN[0], ((2, True), SPOT)), (VAN[0], ((2, 1), list(SPOT))), (VAN[0], ((2, 1), (SPOT[0], (2, 2)))), (VAN[0], ((2, 1), (SPOT[0], ROOT))),
+    (VAN[0], (SPOT, (2, 1))), (VAN[0], ((2, 1), *SPOT)), (VAN[0], ((0, 1), (5, 1))), (((1, 2), SPOT), ((1, 3), SPOT)), "0 0 0 ; 4 8 0",
+]
+
+NO_WATCHES = NEVER + [
+    SPOT[::-1], ((1, 1), (1, 1)), ((1, 2), (1, 3)), list(WATCH), (*WATCH, (10, 1)), WATCH[:1], ((0, 1), ROOT), (ROOT, (9, 1)), ((0, 1), (9, 9)),
+    ((0, 1), [9, 1]), ([0, 1], (9, 1)), (0, 9), ((0, 1), (True, 1)), ((0, 1), None), (None, (9, 1)), ((False, 1), (9, 1)), (WATCH,), ROOT,
+]
+
+NO_THINGS = NEVER + [
+    VAN, ("van", VAN), (("van", VAN), ("cart", VAN)), (("van", VAN), ("van", VAN)), list(THINGS), (list(THINGS[0]), THINGS[1]), (THINGS,),
+    (("van", VAN, VAN),), (("van",),), ((VAN, "van"),), (*THINGS, None), (*THINGS, THINGS[0]), {"van": VAN}, (("van", None),), (("van", ()),),
+    tuple([(name, VAN) for name in "abcdefg"]), tuple([(name, VAN) for name in ("a9", "a10")]), (("cart", VAN), ("van", list(VAN))),
+] + [((name, VAN),) for name in NO_NAMES] + [(("van", way),) for way in NO_WAYS[::3]] + [(("a", VAN), ("b", way)) for way in NO_WAYS[1::3]]
+
+NO_RULE = NEVER + [
+    DISC, HALF, list(INSIDE), (INSIDE,), (INSIDE, INSIDE), INSIDE[:2], (*INSIDE, None), ("in", DISC, "van"), ("in", "van", "van", DISC), ("In", "van", DISC),
+    ("in", "van", list(DISC)), ("in", "van", INSIDE), list(NEAR), NEAR[:3], (*NEAR, (1, 4)), ("near", "van", (1, 4)), ("near", "van", (1, 4), "cart"),
+    ("and",), ("or",), ("not",), ("since",), ("long",), ("lately",), ("not", INSIDE, INSIDE), ("and", None), ("and", INSIDE, None), ("and", (INSIDE, INSIDE)),
+    ("and", [INSIDE]), ("or", DISC), ("not", HALF), ("xor", INSIDE), ("since", INSIDE), ("since", INSIDE, INSIDE, INSIDE), ("since", INSIDE, None),
+    ("long", INSIDE), ("long", INSIDE, (1, 2)), ("long", (1, 2), (1, 2), INSIDE), ("long", (1, 2), None), ("lately", (1, 2), INSIDE, INSIDE),
+    ("lately", INSIDE), ("and", *[INSIDE] * 9), ("or", *[INSIDE] * 9), ("and", *[("or", *[INSIDE] * 5)] * 4), ["not", INSIDE], (True, INSIDE), ("", INSIDE),
+    (None, INSIDE), ("not", ("not", ("not", ("not", ("not", ("not", ("not", ("not", INSIDE)))))))), "(near van cart 1)", ("near van cart 1",), RULES, WATCH, ROOT,
+] + [("in", name, DISC) for name in NO_NAMES] + [("near", name, "a", (1, 1)) for name in NO_NAMES] + [
+    ("near", "a", name, (1, 1)) for name in NO_NAMES] + [("in", "van", region) for region in NO_REGIONS[::2]] + [
+    ("near", "a", "b", square) for square in NO_SQUARES[::2]] + [("long", length, NEAR) for length in NO_LENGTHS[::2]] + [
+    ("lately", length, NEAR) for length in NO_LENGTHS[1::2]]
+
+NO_RULES = [value for value in NEVER if value != ()] + [
+    RULE, INSIDE, ("r", RULE), list(RULES), (list(RULES[0]),), (RULES,), (RULES[0], RULES[0]), (*RULES, RULES[0]), (*RULES, None), (("r", RULE, RULE),),
+    (("r",),), ((RULE, "r"),), {"r": RULE}, tuple([("r" + str(n), NEAR) for n in range(13)]), (RULE, RULE), (("a", RULE), ("b", None)),
+] + [((name, RULE),) for name in NO_NAMES] + [(("r", rule),) for rule in NO_RULE[::3]] + [(RULES[0], ("r", rule)) for rule in NO_RULE[1::3]]
+
+NO_EVENTS = NEVER + [list(EVENT), EVENT[:3], (*EVENT, None), (EVENT,), (ROOT, "van", "begins", 0), (ROOT, "van", "begins", None), (ROOT, "van", "begun", True)] + [
+    (ROOT, name, "ends", True) for name in NO_NAMES] + [(moment, "van", "ends", True) for moment in NO_MOMENTS[::2]] + [ROOT, "van begins in 7"]
+
+TAKEN = [("BadRule", NO_RULE, RULE), ("BadThings", NO_THINGS, THINGS), ("BadWatch", NO_WATCHES, WATCH)]
+TAKEN_BY_EVENTS = [("BadRules", NO_RULES, RULES), *TAKEN[1:]]
+
 # Of each function: its parameters in sequence, with the error that each raises for which values, and right values.
 CASES = [
     (moments.ascending, [("BadMoments", [one for one in NEVER if one != ()] + [[ROOT], (ROOT, None), ROOT], (ROOT,))]),
@@ -78,6 +137,30 @@ CASES = [
     (regions.region_of, [("BadPatch", NO_PATCHES, PATCH)]),
     (regions.region_text, [("BadRegion", NO_REGIONS, DISC)]),
     (regions.size, [("BadRegion", NO_REGIONS, DISC)]),
+    (ways.at, [("BadWay", NO_WAYS, VAN), ("BadFraction", NO_FRACTIONS, (7, 2))]),
+    (ways.closest, [("BadWay", NO_WAYS, VAN), ("BadWay", NO_WAYS, REPORTS[:12])]),
+    (ways.during, [("BadRegion", NO_REGIONS, DISC), ("BadWay", NO_WAYS, VAN)]),
+    (ways.is_in_at, [("BadRegion", NO_REGIONS, DISC), ("BadWay", NO_WAYS, VAN), ("BadMoment", NO_MOMENTS, ROOT)]),
+    (ways.led_on, [("BadWay", NO_WAYS, VAN[:2]), ("BadWay", NO_WAYS, VAN[1:])]),
+    (ways.near, [("BadWay", NO_WAYS, VAN), ("BadWay", NO_WAYS, REPORTS[:2]), ("BadSquare", NO_SQUARES, (1, 4))]),
+    (ways.part, [("BadWay", NO_WAYS, VAN), (None, [], (1, 1)), (None, [], (2, 1))]),
+    (ways.read_way, [("BadWay", NO_TEXTS + ["", " ", "what", "0 0 0"], "0 0 0 ; 4 8 0")]),
+    (ways.speeds, [("BadWay", NO_WAYS, VAN)]),
+    (ways.way_text, [("BadWay", NO_WAYS, VAN)]),
+    (rules.far_back, [("BadRule", NO_RULE, RULE)]),
+    (rules.held, TAKEN),
+    (rules.held_at, [*TAKEN, ("BadMoment", NO_MOMENTS, ROOT)]),
+    (rules.names_in, [("BadRule", NO_RULE, RULE)]),
+    (rules.read_rule, [("BadRule", NO_TEXTS + ["", " ", "what", "()", "(not)"], "(near van cart 1)")]),
+    (rules.rule_text, [("BadRule", NO_RULE, RULE)]),
+    (reasons.reason, [*TAKEN, ("BadMoment", NO_MOMENTS, ROOT)]),
+    (reasons.shows_reason, [*TAKEN, ("BadMoment", NO_MOMENTS, ROOT), (None, [], None)]),
+    (events.event_text, [("BadEvent", NO_EVENTS, EVENT)]),
+    (events.events, TAKEN_BY_EVENTS),
+    (events.holding, [*TAKEN_BY_EVENTS, ("BadMoment", NO_MOMENTS, ROOT)]),
+    (events.next_event, [*TAKEN_BY_EVENTS, ("BadMoment", NO_MOMENTS, ROOT)]),
+    (events.read_event, [("BadEvent", NO_TEXTS + ["", " ", "what", "in"], "van ends in 7")]),
+    (events.tally, [*TAKEN_BY_EVENTS, ("BadMoment", NO_MOMENTS, ROOT), ("BadMoment", NO_MOMENTS, (1, 1))]),
 ]
 
 
@@ -98,10 +181,22 @@ class WrongValues(unittest.TestCase):
 
     def test_of_several_wrong_values_the_first_one_is_told(self):
         for function, parameters in CASES:
-            if len(parameters) == 2:
-                (first, wrong, _), (_, others, _) = parameters
-                for value, other in itertools.product(wrong[::3], others[::3]):
-                    self.check(function, [value, other], first, value)
+            right = [parameter[2] for parameter in parameters]
+            for first, second in itertools.combinations(range(len(parameters)), 2):
+                name, wrong, _ = parameters[first]
+                step = 3 if len(parameters) == 2 else 11
+                for value, other in itertools.product(wrong[::step], parameters[second][1][::step]):
+                    values = [*right[:first], value, *right[first + 1:second], other, *right[second + 1:]]
+                    self.check(function, values, name, value)
+
+    def test_all_wrong_values_at_once(self):
+        for function, parameters in CASES:
+            for at, (name, wrong, _) in enumerate(parameters):
+                ahead, behind = parameters[:at], parameters[at + 1:]
+                values = [parameter[2] for parameter in ahead]
+                for n, value in enumerate(wrong[::5]):
+                    others = [parameter[1][n % len(parameter[1])] if parameter[1] else parameter[2] for parameter in behind]
+                    self.check(function, [*values, value, *others], name, value)
 
     def test_wrong_values_are_not_changed(self):
         for function, parameters in CASES:

@@ -1,4 +1,4 @@
-"""Each example that the document prints of points 4, 5 and 6, with the very answers that it prints."""
+"""Each example that the document prints of points 4 to 9, with the very answers that it prints."""
 import doctest
 import os
 import unittest
@@ -23,3 +23,12 @@ class Examples(unittest.TestCase):
 
     def test_regions(self):
         self.run_file("regions.txt", 12)
+
+    def test_ways(self):
+        self.run_file("ways.txt", 10)
+
+    def test_rules(self):
+        self.run_file("rules.txt", 13)
+
+    def test_events(self):
+        self.run_file("events.txt", 9)

@@ -9,6 +9,12 @@ SOON = (((1, 2), True, (1, 1), True),)
 SPOT = ((1, 1), (2, 1))
 RING = ("and", ("disc", SPOT, (4, 1)), ("not", ("half", 1, 2, 3)))
 PATCH = (((0, 1), (0, 1)), ((4, 1), (0, 1)), ((4, 1), (2, 1)))
+VAN = (((0, 1), SPOT), ((2, 1), ((5, 1), (2, 1))), ((6, 1), ((5, 1), (0, 1))))
+CART = (((1, 1), ((3, 1), (2, 1))), ((2, 1), ((5, 1), (2, 1))))
+THINGS = (("cart", CART), ("van", VAN))
+WATCH = ((0, 1), (9, 1))
+RULE = ("or", ("in", "van", RING), ("lately", (1, 2), ("near", "van", "cart", (1, 4))))
+RULES = (("out", ("not", RULE)), ("in", RULE))
 
 # For each file, of each function: its parameters, and values that it takes.
 FUNCTIONS = {
@@ -46,6 +52,39 @@ FUNCTIONS = {
         "region_of": {"patch": PATCH},
         "region_text": {"region": RING},
         "size": {"region": RING},
+    },
+    "ways": {
+        "at": {"way": VAN, "moment": (7, 2)},
+        "closest": {"one": VAN, "other": CART},
+        "during": {"region": RING, "way": VAN},
+        "is_in_at": {"region": RING, "way": VAN, "moment": ROOT},
+        "led_on": {"one": CART, "other": VAN[1:]},
+        "near": {"one": VAN, "other": CART, "square": (1, 4)},
+        "part": {"way": VAN, "low": (1, 2), "high": (7, 2)},
+        "read_way": {"text": "0 0 0 ; 4 8 0"},
+        "speeds": {"way": VAN},
+        "way_text": {"way": VAN},
+    },
+    "rules": {
+        "far_back": {"rule": RULE},
+        "held": {"rule": RULE, "things": THINGS, "watch": WATCH},
+        "held_at": {"rule": RULE, "things": THINGS, "watch": WATCH, "moment": ROOT},
+        "names_in": {"rule": RULE},
+        "read_rule": {"text": "(near van cart 1/4)"},
+        "rule_text": {"rule": RULE},
+    },
+    "reasons": {
+        "reason": {"rule": RULE, "things": THINGS, "watch": WATCH, "moment": ROOT},
+        "shows_reason": {"rule": ("not", ("in", "van", ("half", 1, 0, 9))), "things": THINGS, "watch": WATCH, "moment": ROOT,
+                         "value": ("not", ("so",))},
+    },
+    "events": {
+        "event_text": {"event": (ROOT, "van", "begins", False)},
+        "events": {"rules": RULES, "things": THINGS, "watch": WATCH},
+        "holding": {"rules": RULES, "things": THINGS, "watch": WATCH, "moment": ROOT},
+        "next_event": {"rules": RULES, "things": THINGS, "watch": WATCH, "moment": ROOT},
+        "read_event": {"text": "van ends out root 1 0 -2 low"},
+        "tally": {"rules": RULES, "things": THINGS, "watch": WATCH, "low": (1, 1), "high": (5, 1)},
     },
 }
 

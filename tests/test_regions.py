@@ -6,13 +6,8 @@ from fractions import Fraction
 from math import gcd
 
 from crossingstold.regions import is_in, moved, parts, read_region, region_of, region_text, size
-from tests.helpers import NO_FRACTIONS, NO_POINTS, number, refused
-
-
-def spot(x, y):
-    """A POINT of integers or of Python's own fractions."""
-    return (number(x), number(y))
-
+from tests.helpers import (
+    NO_FRACTIONS, NO_POINTS, inside, number, random_region, refused, shown_wrong, spot, text_of, worth)
 
 HALF = ("half", 1, -2, 3)
 DISC = ("disc", spot(0, 0), (9, 4))
@@ -31,52 +26,10 @@ def with_leaves(many):
     return ("or", *[("and", *[HALF] * len(range(many)[first:first + 8])) for first in range(0, many, 8)])
 
 
-def worth(fraction):
-    """A FRACTION as one of Python's own."""
-    return Fraction(*fraction)
-
-
-def inside(region, x, y):
-    """Whether a POINT lies in a REGION, by Python's own fractions."""
-    word, *inner = region
-    if word == "half":
-        return inner[0] * x + inner[1] * y <= inner[2]
-    if word == "disc":
-        left, up = [worth(fraction) for fraction in inner[0]]
-        return (x - left) ** 2 + (y - up) ** 2 <= worth(inner[1])
-    found = [inside(part, x, y) for part in inner]
-    return {"and": all(found), "or": any(found), "not": not found[0]}[word]
-
-
-def random_region(chance, deep, leaves):
-    """A REGION at most so deep, with at most so many halves and discs."""
-    word = chance.choice(["half", "disc"]) if deep == 1 else chance.choice(["half", "disc", "and", "or", "not", "and"])
-    if word == "half":
-        a, b = 0, 0
-        while a == b == 0:
-            a, b = chance.randint(-3, 3), chance.randint(-3, 3)
-        return (word, a, b, chance.randint(-6, 6))
-    if word == "disc":
-        return (word, tuple([number(chance.randint(-6, 6), chance.randint(1, 3)) for _ in range(2)]),
-                number(chance.choice([0, 1, 2, 4, 5, 9, 25]), chance.choice([1, 1, 4])))
-    if word == "not":
-        return (word, random_region(chance, deep - 1, leaves))
-    many = chance.randint(1, min(3, leaves))
-    return (word, *[random_region(chance, deep - 1, leaves // many) for _ in range(many)])
-
-
 def random_regions(seed, many):
     """So many REGIONS."""
     chance = random.Random(seed)
     return [random_region(chance, 5, 12) for _ in range(many)]
-
-
-def shown_wrong(test, function, value, *others, name="BadRegion"):
-    """That the function raises this error with the very value."""
-    with test.assertRaises(ValueError, msg=value) as caught:
-        function(value, *others)
-    test.assertEqual(type(caught.exception).__name__, name, value)
-    test.assertIs(caught.exception.value, value)
 
 
 class Bounds(unittest.TestCase):
@@ -140,18 +93,6 @@ class Bounds(unittest.TestCase):
         for _ in range(58):
             value = ("and", *[value] * 8)
         shown_wrong(self, region_text, value)
-
-
-def text_of(region):
-    """The text of what is a REGION, or nearly one."""
-    word, *inner = region
-    if word == "half":
-        told = [str(n) for n in inner]
-    elif word == "disc":
-        told = [str(worth(fraction)) for fraction in (*inner[0], inner[1])]
-    else:
-        told = [text_of(part) for part in inner]
-    return "(" + " ".join([word, *told]) + ")"
 
 
 class Nearly(unittest.TestCase):
