@@ -122,7 +122,8 @@ class Texts(unittest.TestCase):
                 "(since (near a b 1))", "(since (near a b 1) (near a b 1) (near a b 1))", "(since 1 (near a b 1))",
                 "(since (near a b 1)  (near a b 1))", "(near a b 1) (near a b 1)", "(near a b 1)(near a b 1)", "((near) a b 1)",
                 "((not) (near a b 1))", "(long (1) (near a b 1))", "(2 (near a b 1))", "[near a b 1]", "(near a b 1", "near a b 1)",
-                "(" * 5000 + ")" * 5000, "(in a " + "(not " * 5000 + "(half 1 0 0)" + ")" * 5001, "(not " * 5000 + "(near a b 1)" + ")" * 5000):
+                "(" * 5000 + ")" * 5000, "(in a " + "(not " * 5000 + "(half 1 0 0)" + ")" * 5001, "(not " * 5000 + "(near a b 1)" + ")" * 5000,
+                "(long 1 " * 5000 + "(near a b 1)" + ")" * 5000, "(and (lately 1 " + "(lately 2 " * 5000 + "(near a b 1)" + ")" * 5002):
             shown_wrong(self, read_rule, text, name="BadRule")
 
     def test_changed_signs_are_no_text_or_that_of_another_rule(self):
