@@ -5,6 +5,7 @@ from crossingstold.kinds import BEGINS, ENDS, are_rules, is_event
 from crossingstold.needs import need_moment, need_things, need_watch
 from crossingstold.plain import in_order
 from crossingstold.rules import need_known
+from crossingstold.steps import Steps
 from crossingstold.stretches import has
 from crossingstold.surds import moment_order
 from crossingstold.texts import moment_in, words_of_moment
@@ -20,10 +21,10 @@ def need_all(rules, things, watch):
         need_known(rule, things)
 
 
-def found_for_each(rules, things, watch):
-    """(NAME, STRETCHES at which it holds) for each RULE."""
+def found_for_each(rules, things, watch, steps):
+    """(NAME, STRETCHES at which it holds) for each RULE, by these Steps."""
     ways = ways_of(things)
-    return [(name, finding_of(rule, ways, watch).stretches) for name, rule in rules]
+    return [(name, finding_of(rule, ways, watch, steps).stretches) for name, rule in rules]
 
 
 def events_of(name, stretches):
@@ -40,24 +41,25 @@ def event_order(one, other):
     return moment_order(one[0], other[0])
 
 
-def all_events(rules, things, watch):
-    """What events tells, of values that are checked."""
-    told = [event for name, stretches in found_for_each(rules, things, watch) for event in events_of(name, stretches)]
+def found_events(rules, things, watch, steps):
+    """What events tells, by these Steps; raises what events raises."""
+    need_all(rules, things, watch)
+    found = found_for_each(rules, things, watch, steps)
+    told = [event for name, stretches in found for event in events_of(name, stretches)]
     # At one MOMENT they stay as they stand: by RULES, and of one RULE by its STRETCHES.
-    return in_order(told, event_order)
+    return tuple(in_order(told, event_order))
 
 
 def events(rules, things, watch):
     """All EVENTS of these RULES, in sequence."""
-    need_all(rules, things, watch)
-    return tuple(all_events(rules, things, watch))
+    return found_events(rules, things, watch, Steps())
 
 
 def next_event(rules, things, watch, moment):
     """The first EVENT whose MOMENT is greater than moment; None if there is none."""
-    need_all(rules, things, watch)
+    told = found_events(rules, things, watch, Steps())
     need_moment(moment)
-    for event in all_events(rules, things, watch):
+    for event in told:
         if moment_order(event[0], moment) > 0:
             return event
     return None
@@ -67,7 +69,7 @@ def holding(rules, things, watch, moment):
     """The NAMES of the RULES that hold at this MOMENT, in the sequence of RULES."""
     need_all(rules, things, watch)
     need_moment(moment)
-    return tuple([name for name, stretches in found_for_each(rules, things, watch) if has(stretches, moment)])
+    return tuple([name for name, stretches in found_for_each(rules, things, watch, Steps()) if has(stretches, moment)])
 
 
 def tally(rules, things, watch, low, high):
@@ -76,7 +78,7 @@ def tally(rules, things, watch, low, high):
     need_moment(low)
     need_moment(high)
     told = []
-    for name, stretches in found_for_each(rules, things, watch):
+    for name, stretches in found_for_each(rules, things, watch, Steps()):
         words = [event[2] for event in events_of(name, stretches)
                  if moment_order(low, event[0]) < 0 and moment_order(event[0], high) <= 0]
         told.append((name, words.count(BEGINS), words.count(ENDS)))

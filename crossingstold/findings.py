@@ -1,7 +1,7 @@
 """When RULES hold, and those within them: reckoned from values that are checked."""
 from crossingstold.cuts import in_all, in_any, in_both, in_one_alone
 from crossingstold.kinds import inner_rules
-from crossingstold.legs import way_in, ways_near
+from crossingstold.steps import near_steps, way_steps
 from crossingstold.stretches import narrowed, since, widened
 
 
@@ -36,14 +36,15 @@ def put_together(rule, lots, watch):
     return since(lots[0], lots[1])
 
 
-def finding_of(rule, ways, watch):
-    """The Finding of a RULE; ways is a dict that has the WAY of each NAME in it."""
+def finding_of(rule, ways, watch, steps):
+    """The Finding of a RULE by these Steps; ways is a dict that has the WAY of each NAME in it."""
     word = rule[0]
     if word == "in":
-        return Finding(rule, in_both(whole_of(watch), way_in(rule[2], ways[rule[1]])), [])
+        return Finding(rule, in_both(whole_of(watch), way_steps(steps, rule[2], ways[rule[1]])), [])
     if word == "near":
-        return Finding(rule, in_both(whole_of(watch), ways_near(rule[3], ways[rule[1]], ways[rule[2]])), [])
-    inner = [finding_of(one, ways, watch) for one in inner_rules(rule)]
+        found = near_steps(steps, rule[3], ways[rule[1]], ways[rule[2]])
+        return Finding(rule, in_both(whole_of(watch), found), [])
+    inner = [finding_of(one, ways, watch, steps) for one in inner_rules(rule)]
     return Finding(rule, put_together(rule, [one.stretches for one in inner], watch), inner)
 
 

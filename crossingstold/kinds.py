@@ -1,6 +1,6 @@
-"""REPORTS, WAYS, NAMES, THINGS, WATCHES, RULES and EVENTS: what is one; by functions that raise nothing."""
+"""REPORTS, WAYS, NAMES, THINGS, WATCHES, RULES, EVENTS and several PATCHES: what is one; nothing is raised here."""
 from crossingstold.plain import fraction_order, is_fraction, is_from_zero, is_point
-from crossingstold.shapes import is_region
+from crossingstold.shapes import is_patch, is_region
 from crossingstold.surds import is_moment
 
 LETTERS = "abcdefghijklmnopqrstuvwxyz"
@@ -10,6 +10,7 @@ LONGEST_NAME = 8
 FEWEST_REPORTS = 2
 MOST_REPORTS = 12
 MOST_THINGS = 6
+MOST_PATCHES = 6
 DEEPEST_RULE = 8
 MOST_RULES_IN_ONE = 20
 MOST_RULES_BEHIND_A_WORD = 8
@@ -38,6 +39,13 @@ def is_way(value):
     if not all([is_report(report) for report in value]):
         return False
     return all([fraction_order(value[n - 1][0], value[n][0]) < 0 for n in range(1, len(value))])
+
+
+def are_patches(value):
+    """Whether value is a tuple of 1 to 6 PATCHES."""
+    if not isinstance(value, tuple) or not 1 <= len(value) <= MOST_PATCHES:
+        return False
+    return all([is_patch(patch) for patch in value])
 
 
 def is_named(value):

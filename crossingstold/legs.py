@@ -4,10 +4,8 @@ A *leg* is a pair of REPORTS. A *line* is a pair of FRACTIONS (b, c), for the nu
 lines tell where a thing is on a leg, across and up. A *form* is three FRACTIONS (a, b, c), for the number
 a t t + b t + c; a is never below 0 here.
 """
-from math import lcm
-
 from crossingstold.cuts import in_all, in_any, in_one_alone
-from crossingstold.plain import fraction_order, minus, over, plus, times
+from crossingstold.plain import fraction_order, minus, over, plus, times, whole_numbers
 from crossingstold.regions import form_at
 from crossingstold.surds import earlier, later, moment_order, solved
 
@@ -69,12 +67,6 @@ def distance_form(leg, other):
     """The form of the square of the distance of two things on their legs."""
     x, y = [(minus(b, e), minus(c, f)) for (b, c), (e, f) in zip(lines_of(leg), lines_of(other))]
     return square_form(x, y)
-
-
-def whole_numbers(form):
-    """Three integers in the place of those of a form, all times the same integer above 0."""
-    shared = lcm(lcm(form[0][1], form[1][1]), form[2][1])
-    return [top * (shared // bottom) for top, bottom in form]
 
 
 def not_above_zero(form, low, high):

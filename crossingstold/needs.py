@@ -1,11 +1,11 @@
 """What several functions ask of their values: each function here raises its error, or does nothing."""
 from crossingstold.cuts import are_stretches
 from crossingstold.errors import (
-    BadFraction, BadLength, BadMoment, BadPoint, BadRegion, BadRule, BadSquare, BadStretches, BadThings, BadWatch,
-    BadWay)
-from crossingstold.kinds import are_things, is_rule, is_watch, is_way
-from crossingstold.plain import is_fraction, is_from_zero, is_point
-from crossingstold.shapes import is_region
+    BadFraction, BadLength, BadLook, BadMoment, BadName, BadPatch, BadPatches, BadPoint, BadRegion, BadReport, BadRule,
+    BadSpeed, BadSquare, BadStretches, BadThings, BadWatch, BadWay)
+from crossingstold.kinds import are_patches, are_things, is_name, is_report, is_rule, is_watch, is_way
+from crossingstold.plain import is_above_zero, is_fraction, is_from_zero, is_point
+from crossingstold.shapes import is_patch, is_region
 from crossingstold.surds import is_moment
 
 
@@ -73,3 +73,39 @@ def need_rule(value):
     """BadRule unless value is a RULE."""
     if not is_rule(value):
         raise BadRule(value)
+
+
+def need_speed(value):
+    """BadSpeed unless value is a SPEED."""
+    if not is_above_zero(value):
+        raise BadSpeed(value)
+
+
+def need_patch(value):
+    """BadPatch unless value is a PATCH."""
+    if not is_patch(value):
+        raise BadPatch(value)
+
+
+def need_patches(value):
+    """BadPatches unless value is a tuple of 1 to 6 PATCHES."""
+    if not are_patches(value):
+        raise BadPatches(value)
+
+
+def need_look(value):
+    """BadLook unless value is a LOOK, which is a tuple like a REPORT."""
+    if not is_report(value):
+        raise BadLook(value)
+
+
+def need_report(value):
+    """BadReport unless value is a REPORT."""
+    if not is_report(value):
+        raise BadReport(value)
+
+
+def need_name(value):
+    """BadName unless value is a NAME."""
+    if not is_name(value):
+        raise BadName(value)

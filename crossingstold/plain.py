@@ -1,5 +1,5 @@
 """Integers, FRACTIONS and POINTS: what is one, and how they are reckoned with."""
-from math import gcd
+from math import gcd, lcm
 
 
 def is_integer(value):
@@ -23,6 +23,11 @@ def is_fraction(value):
 def is_from_zero(value):
     """Whether value is a FRACTION from 0 on: a LENGTH, or a SQUARE."""
     return is_fraction(value) and value[0] >= 0
+
+
+def is_above_zero(value):
+    """Whether value is a FRACTION above 0: a SPEED, or a step."""
+    return is_fraction(value) and value[0] > 0
 
 
 def is_point(value):
@@ -65,6 +70,14 @@ def times(one, other):
 def over(one, other):
     """The one FRACTION through the other one, which is not 0."""
     return lowest(one[0] * other[1], one[1] * other[0])
+
+
+def whole_numbers(fractions):
+    """Integers in the place of these FRACTIONS, all times the same integer above 0."""
+    shared = 1
+    for _, bottom in fractions:
+        shared = lcm(shared, bottom)
+    return [top * (shared // bottom) for top, bottom in fractions]
 
 
 def fraction_order(one, other):

@@ -1,10 +1,10 @@
 """REGIONS: parts of the plane that are put together of half planes and discs."""
-from math import gcd, lcm
+from math import gcd
 
-from crossingstold.errors import BadPatch, BadRegion
-from crossingstold.needs import need_point, need_region
-from crossingstold.plain import fraction_order, minus, plus, times
-from crossingstold.shapes import is_patch, read_shape, words_of_region
+from crossingstold.errors import BadRegion
+from crossingstold.needs import need_patch, need_point, need_region
+from crossingstold.plain import fraction_order, minus, plus, times, whole_numbers
+from crossingstold.shapes import read_shape, sides_of, words_of_region
 
 
 def region_text(region):
@@ -90,18 +90,15 @@ def side_half(one, other):
     """The half of all that lies on the left of the way from one POINT to another one, with lowest integers."""
     up, back = minus(other[1], one[1]), minus(one[0], other[0])
     border = plus(times(up, one[0]), times(back, one[1]))
-    bottom = lcm(lcm(up[1], back[1]), border[1])
-    a, b, c = [top * (bottom // own) for top, own in (up, back, border)]
+    a, b, c = whole_numbers((up, back, border))
     shared = gcd(gcd(a, b), c)
     return ("half", a // shared, b // shared, c // shared)
 
 
 def region_of(patch):
     """The REGION of the halves of a PATCH's sides: all POINTS in it, rims too."""
-    if not is_patch(patch):
-        raise BadPatch(patch)
-    following = (*patch[1:], patch[0])
-    return ("and", *[side_half(one, other) for one, other in zip(patch, following)])
+    need_patch(patch)
+    return ("and", *[side_half(one, other) for one, other in sides_of(patch)])
 
 
 def moved_region(region, by):

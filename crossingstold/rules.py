@@ -5,6 +5,7 @@ from crossingstold.kinds import DEEPEST_RULE, inner_rules, is_rule
 from crossingstold.needs import need_moment, need_rule, need_things, need_watch
 from crossingstold.plain import plus
 from crossingstold.shapes import region_from, words_of_region
+from crossingstold.steps import Steps
 from crossingstold.stretches import has
 from crossingstold.surds import later
 from crossingstold.texts import fraction_in, fraction_text, tree_in
@@ -43,10 +44,16 @@ def rule_from(tree, deep):
     return (word, *[rule_from(one, deep + 1) for one in told])
 
 
+def rule_in(text):
+    """The RULE whose text this is; None if there is none."""
+    rule = rule_from(tree_in(text), 1)
+    return rule if is_rule(rule) else None
+
+
 def read_rule(text):
     """The RULE whose text this is."""
-    rule = rule_from(tree_in(text), 1)
-    if not is_rule(rule):
+    rule = rule_in(text)
+    if rule is None:
         raise BadRule(text)
     return rule
 
@@ -95,23 +102,23 @@ def need_known(rule, things):
         raise NoThing(min(missing))
 
 
-def found(rule, things, watch):
-    """The Finding of a RULE; raises what held raises."""
+def found(rule, things, watch, steps):
+    """The Finding of a RULE by these Steps; raises what held raises."""
     need_rule(rule)
     need_things(things)
     need_watch(watch)
     need_known(rule, things)
-    return finding_of(rule, ways_of(things), watch)
+    return finding_of(rule, ways_of(things), watch, steps)
 
 
 def held(rule, things, watch):
     """The STRETCHES of all moments of the WATCH at which the RULE is so."""
-    return found(rule, things, watch).stretches
+    return found(rule, things, watch, Steps()).stretches
 
 
 def found_at(rule, things, watch, moment):
     """The Finding of a RULE; raises what held_at raises."""
-    finding = found(rule, things, watch)
+    finding = found(rule, things, watch, Steps())
     need_moment(moment)
     if not has(whole_of(watch), moment):
         raise NotThen(moment)

@@ -94,6 +94,11 @@ def turn(one, two, three):
     return minus(across, times(minus(two[1], one[1]), minus(three[0], one[0])))
 
 
+def sides_of(patch):
+    """The sides of a PATCH, pairs of corners, in sequence."""
+    return [(patch[n - 1], patch[n]) for n in range(1, len(patch))] + [(patch[-1], patch[0])]
+
+
 def point_order(one, other):
     """-1, 0 or 1: how two POINTS stand to one another, by x, then by y."""
     order = fraction_order(one[0], other[0])
