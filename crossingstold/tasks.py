@@ -38,14 +38,14 @@ def task_in(line):
 
 def do_task(kept, task):
     """Does a deed with this Post."""
-    word, values = task[0], task[1:]
+    word = task[0]
     if word == "put":
-        kept.put(*values)
+        kept.put(task[1], task[2])
     elif word == "take":
-        kept.take(*values)
+        kept.take(task[1])
     elif word == "correct":
-        kept.correct(*values)
+        kept.correct(task[1], task[2])
     elif word == "add":
-        kept.add(*values)
+        kept.add(task[1], task[2])
     else:
-        kept.drop(*values)
+        kept.drop(task[1])

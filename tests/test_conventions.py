@@ -3,7 +3,7 @@ import copy
 import itertools
 import unittest
 
-from crossingstold import events, moments, reasons, regions, rules, stretches, ways
+from crossingstold import cones, events, looks, moments, pictures, reasons, regions, rules, stretches, unseen, ways
 from tests.helpers import NEVER, NO_FRACTIONS, NO_LENGTHS, NO_MOMENTS, NO_POINTS, Thing, deep, refused
 
 ROOT = (1, 0, -2, 1)
@@ -48,7 +48,12 @@ NO_REGIONS = NEVER + [
 NO_PATCHES = NEVER + [
     list(PATCH), PATCH[:2], (*PATCH, None), SPOT, HALF, (SPOT,), tuple([list(corner) for corner in PATCH]),
     ((0, 0), (4, 0), (4, 2)), (((0, 1), (0, 1)), ((4, 1), (0, 1)), ((4, 2), (2, 1))), (PATCH,), ROOT, (*PATCH[:2], ROOT),
-]
+] + [tuple([((x, 1), (y, 1)) for x, y in corners]) for corners in (
+    # With the clock; a corner on a side; a dent; 2 and 9 corners; not the least corner first.
+    ((0, 0), (4, 2), (4, 0)), ((0, 0), (0, 2), (2, 2), (2, 0)), ((0, 0), (1, 0), (2, 0), (0, 2)), ((0, 0), (2, 0), (1, 1), (0, 2)),
+    ((0, 0), (3, 0), (1, 1), (0, 3)), ((0, 0), (4, 0)), ((0, 4), (2, 1), (4, 0), (6, 0), (9, 1), (10, 4), (9, 7), (5, 9), (1, 7)),
+    ((4, 0), (4, 2), (0, 0)), ((0, 1), (0, 0), (4, 0)), ((4, 2), (0, 0), (4, 0)), ((0, 0), (4, 0), (0, 0)), ((0, 0), (4, 0), (4, 0), (4, 2)),
+    ((0, 0), (3, 3), (0, 3), (3, 0)), ((0, 0), (1, 1), (2, 2)), ((0, 0), (4, 0), (4, 2), (0, 0), (4, 0), (4, 2)))]
 
 VAN = (((0, 1), SPOT), ((2, 1), ((5, 1), (2, 1))), ((6, 1), ((5, 1), (0, 1))))
 REPORTS = tuple([((n, 1), ((n * n, 1), (n, 1))) for n in range(14)])
@@ -106,8 +111,34 @@ NO_RULES = [value for value in NEVER if value != ()] + [
 NO_EVENTS = NEVER + [list(EVENT), EVENT[:3], (*EVENT, None), (EVENT,), (ROOT, "van", "begins", 0), (ROOT, "van", "begins", None), (ROOT, "van", "begun", True)] + [
     (ROOT, name, "ends", True) for name in NO_NAMES] + [(moment, "van", "ends", True) for moment in NO_MOMENTS[::2]] + [ROOT, "van begins in 7"]
 
+NO_SPEEDS = NO_LENGTHS + [(0, 1)]
+
+NO_LOOKS = NEVER + [
+    SPOT, ROOT, VAN, PATCH, list(VAN[0]), VAN[0][:1], (*VAN[0], None), (*VAN[0], VAN[0][1]), (VAN[0],), (0, SPOT), ((0, 1), (1, 2)), ((0, 2), SPOT),
+    (ROOT, SPOT), ([0, 1], SPOT), ((0, 1), list(SPOT)), ((0, 1), (SPOT[0],)), ((0, 1), (SPOT[0], [2, 1])), ((0, 1), (SPOT[0], (2, 2))),
+    ((0, 1), (SPOT[0], ROOT)), (SPOT, (0, 1)), ((0, 1), (0, 1), (0, 1)), ((True, 1), SPOT), ((0, True), SPOT), ((0, 1), ((True, 1), (0, 1))),
+    ((0, 1), None), (None, SPOT), ((0, 1), ROOT), "0 1 2", ((0, 1), (1, 1), (2, 1), None),
+]
+
+MANY_PATCHES = tuple([tuple([((x + n, 1), y) for (x, _), y in PATCH]) for n in range(7)])
+
+NO_LOTS = NEVER + [
+    PATCH, list(MANY_PATCHES[:2]), MANY_PATCHES, (*MANY_PATCHES[:2], None), (None, PATCH), ((PATCH,),), [PATCH], {"a": PATCH},
+] + [(patch,) for patch in NO_PATCHES[::2]] + [(PATCH, patch) for patch in NO_PATCHES[1::2]]
+
+NO_BOUNDS = NEVER + [
+    (1, 0), (0, 60), (-30, 30), (0, 1, 2), (1,), [0, 1], (0, None), (True, 2), (0, True), ((0, 1), (1, 1)), ("0", 1), (5, 4), (-1, -2), ROOT, {0: 1},
+    (10 ** 9, 0), (False, 0), (0, False),
+]
+
 TAKEN = [("BadRule", NO_RULE, RULE), ("BadThings", NO_THINGS, THINGS), ("BadWatch", NO_WATCHES, WATCH)]
 TAKEN_BY_EVENTS = [("BadRules", NO_RULES, RULES), *TAKEN[1:]]
+
+ANY = (None, [], None)
+BETWEEN = [("BadPoint", NO_POINTS, SPOT), ("BadPoint", NO_POINTS, ((5, 1), (5, 1))), ("BadPatch", NO_PATCHES, PATCH)]
+SEEN = [("BadLook", NO_LOOKS, ((0, 1), ((2, 1), (1, 1)))), ("BadLook", NO_LOOKS, ((9, 1), ((3, 1), (1, 1)))), ("BadSpeed", NO_SPEEDS, (1, 2))]
+SEEN_PATCH = [*SEEN, ("BadPatch", NO_PATCHES, PATCH)]
+LOOKING = [("BadLook", NO_LOOKS, ((0, 1), SPOT)), ("BadSpeed", NO_SPEEDS, (5, 1)), ("BadPatches", NO_LOTS, (PATCH,)), ("BadLength", NO_LENGTHS, (1, 1))]
 
 # Of each function: its parameters in sequence, with the error that each raises for which values, and right values.
 CASES = [
@@ -161,6 +192,30 @@ CASES = [
     (events.next_event, [*TAKEN_BY_EVENTS, ("BadMoment", NO_MOMENTS, ROOT)]),
     (events.read_event, [("BadEvent", NO_TEXTS + ["", " ", "what", "in"], "van ends in 7")]),
     (events.tally, [*TAKEN_BY_EVENTS, ("BadMoment", NO_MOMENTS, ROOT), ("BadMoment", NO_MOMENTS, (1, 1))]),
+    (unseen.nearest, BETWEEN),
+    (unseen.shows_nearest, [*BETWEEN, ANY]),
+    (unseen.can_touch, SEEN_PATCH),
+    (unseen.shows_can_touch, [*SEEN_PATCH, ANY]),
+    (unseen.paper, SEEN_PATCH),
+    (unseen.shows_paper, [*SEEN_PATCH, ANY]),
+    (unseen.can_leave, SEEN_PATCH),
+    (unseen.shows_can_leave, [*SEEN_PATCH, ANY]),
+    (cones.when_at, [*SEEN, ("BadPoint", NO_POINTS, SPOT)]),
+    (cones.when_can, SEEN_PATCH),
+    (cones.surely_in, SEEN_PATCH),
+    (cones.can_be_in, [*SEEN_PATCH, ("BadMoment", NO_MOMENTS, ROOT)]),
+    (cones.is_surely_in, [*SEEN_PATCH, ("BadMoment", NO_MOMENTS, ROOT)]),
+    (cones.earliest, [SEEN[0], *SEEN_PATCH[2:]]),
+    (looks.rim_distance, [("BadPoint", NO_POINTS, SPOT), SEEN_PATCH[3]]),
+    (looks.next_look, LOOKING),
+    (looks.next_by, LOOKING),
+    (looks.slipped, [*LOOKING, ("TooSoon", NO_FRACTIONS + [(1, 2), (0, 1), (-9, 1), (1, 1)], (20, 1))]),
+    (looks.shows_slipped, [*LOOKING, ("TooSoon", NO_FRACTIONS + [(1, 2), (0, 1), (-9, 1), (1, 1)], (20, 1)), ANY]),
+    (looks.plan, [("BadWay", NO_WAYS, VAN), ("BadSpeed", NO_SPEEDS, (5, 1)), *LOOKING[2:],
+                  ("BadStep", NO_SPEEDS + [(3, 2), (2, 1), (1, 100), (5, 201)], (1, 4))]),
+    (pictures.strip, [("BadStretches", NO_STRETCHES, LATE), ("BadMoment", NO_FRACTIONS, (-1, 2)), ("BadLength", NO_SPEEDS, (1, 2)),
+                      ("BadNumber", [*NO_INTEGERS, 0, -1, 121, 10 ** 9], 120)]),
+    (pictures.sight, [("BadRegion", NO_REGIONS, DISC), ("BadBounds", NO_BOUNDS, (-3, 3)), ("BadBounds", NO_BOUNDS, (0, 59))]),
 ]
 
 

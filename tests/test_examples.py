@@ -1,4 +1,4 @@
-"""Each example that the document prints of points 4 to 9, with the very answers that it prints."""
+"""Each example that the document prints of points 4 to 15, with the very answers that it prints."""
 import doctest
 import os
 import unittest
@@ -32,3 +32,33 @@ class Examples(unittest.TestCase):
 
     def test_events(self):
         self.run_file("events.txt", 9)
+
+    def test_unseen(self):
+        self.run_file("unseen.txt", 10)
+
+    def test_cones(self):
+        self.run_file("cones.txt", 11)
+
+    def test_looks(self):
+        self.run_file("looks.txt", 10)
+
+    def test_keeping(self):
+        self.run_file("keeping.txt", 10)
+
+    def test_pictures(self):
+        self.run_file("pictures.txt", 5)
+
+    def test_desk(self):
+        self.run_file("desk.txt", 6)
+
+    def test_they_are_those_of_the_document(self):
+        document = os.path.join(FOLDER, "..", "..", "..", "shared", "DOC.md")
+        if not os.path.exists(document):
+            self.skipTest("the document is not beside the project")
+        with open(document, encoding="ascii") as file:
+            blocks = file.read().split("```\n")[1::2]
+        told = []
+        for name in sorted(os.listdir(FOLDER)):
+            with open(os.path.join(FOLDER, name), encoding="ascii") as file:
+                told.append(file.read())
+        self.assertEqual(sorted(told), sorted(blocks))
