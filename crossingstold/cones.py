@@ -5,7 +5,7 @@ is just reach, and how far it is from there to the start. A thing that has to go
 """
 from crossingstold.cuts import in_all
 from crossingstold.legs import leg_in
-from crossingstold.needs import need_look, need_moment, need_patch, need_point, need_speed
+from crossingstold.needs import need_look, need_patch, need_point, need_speed
 from crossingstold.plain import minus, over, plus, times, whole_numbers
 from crossingstold.regions import region_of, square_between
 from crossingstold.shapes import sides_of
@@ -120,16 +120,12 @@ def surely_in(one, other, speed, patch):
 
 def can_be_in(one, other, speed, patch, moment):
     """Whether this MOMENT is one of when_can."""
-    told = when_can(one, other, speed, patch)
-    need_moment(moment)
-    return has(told, moment)
+    return has(when_can(one, other, speed, patch), moment)
 
 
 def is_surely_in(one, other, speed, patch, moment):
     """Whether this MOMENT is one of surely_in."""
-    told = surely_in(one, other, speed, patch)
-    need_moment(moment)
-    return has(told, moment)
+    return has(surely_in(one, other, speed, patch), moment)
 
 
 def earliest(one, speed, patch):

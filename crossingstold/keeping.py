@@ -12,7 +12,7 @@ def things_of(reports):
     """The WAYS of all NAMES of which two REPORTS or more stand, ascending by NAMES."""
     told = []
     for name in sorted(set([row[1] for row in reports])):
-        own = [report for _, owner, report in reports if owner == name]
+        own = [row[2] for row in reports if row[1] == name]
         if len(own) >= FEWEST_REPORTS:
             told.append((name, tuple(in_order(own, lambda one, other: fraction_order(one[0], other[0])))))
     return tuple(told)
@@ -20,13 +20,13 @@ def things_of(reports):
 
 def need_free(moment, rows):
     """Taken(moment) if one of these REPORTS, in rows as a Post's, has this moment."""
-    if moment in [report[0] for _, _, report in rows]:
+    if moment in [row[2][0] for row in rows]:
         raise Taken(moment)
 
 
 def need_room(name, reports):
     """Full(name) if there is no room for one more REPORT of this NAME."""
-    owners = [owner for _, owner, _ in reports]
+    owners = [row[1] for row in reports]
     if owners.count(name) >= MOST_REPORTS or (name not in owners and len(set(owners)) >= MOST_THINGS):
         raise Full(name)
 

@@ -28,9 +28,8 @@ def slipping_way(look, speed, patch, length, later):
     begin, point = look
     side = nearest_side(point, patch)
     rim = nearest_on(side, point)
-    told, leave = [look], minus(later, length)
-    if rim != point:
-        told.append((between(moment_behind(begin, distance(point, rim), speed), leave), rim))
+    leave = minus(later, length)
+    told = [look, (between(moment_behind(begin, distance(point, rim), speed), leave), rim)]
     part = times((1, 4), minus(leave, told[-1][0]))
     out = led(rim, out_by(side, times(speed, part)))
     if is_inside(patch, point):

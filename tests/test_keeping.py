@@ -286,6 +286,22 @@ class Work(unittest.TestCase):
             post.held("r" + str(n))
             self.assertEqual(post.work, n + 1)
 
+    def test_a_copy_has_kept_what_was_kept(self):
+        post = post_of(("van", at(0, 0, 0)), ("van", at(10, 10, 0)), ("cart", at(1, 0, 0)), ("cart", at(9, 10, 0)),
+                       rules=[("in", INSIDE), ("east", EAST), ("near", ("near", "van", "cart", (1, 1))), ("disc", ("in", "cart", DISC))])
+        for name in ("in", "east", "near"):
+            post.held(name)
+        twin = post.copy()
+        other = twin.copy()
+        self.assertEqual([twin.work, other.work], [3, 3])
+        for name, work in (("in", 3), ("near", 3), ("east", 3), ("disc", 4), ("in", 4)):
+            twin.held(name)
+            self.assertEqual(twin.work, work)
+        other.held("disc")
+        self.assertEqual([post.work, twin.work, other.work, other.copy().work], [3, 4, 4, 4])
+        post.events()
+        self.assertEqual(post.work, 4)
+
     def test_copies_go_apart_also_in_work(self):
         post = post_of(("van", at(0, 0, 0)), ("van", at(10, 10, 0)), rules=[("in", INSIDE), ("east", EAST)])
         post.held("in")

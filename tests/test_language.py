@@ -125,3 +125,82 @@ class Language(unittest.TestCase):
                 if isinstance(node, ast.BinOp) and isinstance(node.op, ast.Pow):
                     self.assertIsInstance(node.right, ast.Constant, where)
                     self.assertIn(node.right.value, range(65), where)
+
+    def test_classes(self):
+        allowed = {"__init__", "__eq__", "__len__"}
+        for name, _, tree in package_files():
+            for kind in [node for node in tree.body if isinstance(node, ast.ClassDef)]:
+                methods = [node.name for node in kind.body if isinstance(node, ast.FunctionDef)]
+                self.assertEqual(len(methods), len(set(methods)), (name, kind.name))
+                self.assertFalse(kind.decorator_list)
+                for node in kind.body:
+                    self.assertTrue(isinstance(node, ast.FunctionDef) or isinstance(getattr(node, "value", None), ast.Constant), (name, kind.name))
+                    if isinstance(node, ast.FunctionDef):
+                        self.assertFalse(node.decorator_list)
+                        self.assertTrue(node.name in allowed or not node.name.startswith("__"), node.name)
+                        self.assertNotIn(node.name.strip("_"), self.barred_methods(), (name, node.name))
+                assigned = {node.attr for node in ast.walk(kind) if isinstance(node, ast.Attribute) and isinstance(node.ctx, ast.Store)}
+                self.assertFalse(assigned & set(methods), (name, kind.name))
+                for word in assigned:
+                    self.assertNotIn(word, self.barred_attributes(), name)
+                    self.assertRegex(word, r"^_?[a-z][a-z0-9_]*$")
+
+    def barred_methods(self):
+        """Names that no method has: of strings, numbers and so on, but for those that the rules leave free."""
+        own = {name for kind in (str, int, list, dict, set, bytes, tuple) for name in dir(kind) if not name.startswith("_")}
+        return own - {"add", "discard", "append", "copy", "clear", "count", "index", "insert", "pop", "remove", "reverse", "update"}
+
+    def barred_attributes(self):
+        """Names that no attribute has."""
+        own = {name for kind in (str, int, list, dict, set, bytes, tuple) for name in dir(kind)}
+        return (own | {"args", "format", "mro", "open", "input", "law", "elements", "register"}) - {
+            "count", "index", "title", "find", "get", "join", "lower", "upper", "split", "strip", "copy", "add"}
+
+    def test_attributes_that_are_read_are_assigned_or_methods(self):
+        own = {name for kind in (str, int, list, dict, tuple) for name in dir(kind) if not name.startswith("_")} | {"__init__"}
+        known = set(own)
+        for _, _, tree in package_files():
+            known |= {node.attr for node in ast.walk(tree) if isinstance(node, ast.Attribute) and isinstance(node.ctx, ast.Store)}
+            known |= {node.name for kind in tree.body if isinstance(kind, ast.ClassDef) for node in kind.body if isinstance(node, ast.FunctionDef)}
+        for name, _, tree in package_files():
+            for node in ast.walk(tree):
+                if isinstance(node, ast.Attribute):
+                    self.assertIn(node.attr, known, (name, node.lineno))
+
+    def test_the_underscore_is_never_read_and_stands_once_in_a_target(self):
+        for name, _, tree in package_files():
+            for node in ast.walk(tree):
+                if isinstance(node, ast.Name) and node.id == "_":
+                    self.assertIsInstance(node.ctx, ast.Store, (name, node.lineno))
+                if isinstance(node, ast.Tuple) and isinstance(node.ctx, ast.Store):
+                    words = [part.id for part in node.elts if isinstance(part, ast.Name)]
+                    self.assertEqual(len(words), len(set(words)), (name, node.lineno))
+
+    def test_what_is_tried_is_caught_by_own_errors_and_finally_only_assigns(self):
+        own = {node.name for name, _, tree in package_files() if name == "errors.py" for node in tree.body if isinstance(node, ast.ClassDef)}
+        for name, _, tree in package_files():
+            for node in ast.walk(tree):
+                if isinstance(node, ast.ExceptHandler):
+                    self.assertIn(node.type.id, own, name)
+                if isinstance(node, ast.Try):
+                    for row in node.finalbody:
+                        self.assertIsInstance(row, ast.Assign, name)
+                        for part in ast.walk(row):
+                            self.assertNotIsInstance(part, (ast.Call, ast.Subscript, ast.BinOp, ast.Compare), name)
+                if isinstance(node, ast.Raise) and node.exc is not None:
+                    self.assertIn(node.exc.func.id, own | {"TypeError"}, name)
+
+    def test_sets_stand_only_where_they_may(self):
+        for name, _, tree in package_files():
+            around = {id(child): node for node in ast.walk(tree) for child in ast.iter_child_nodes(node)}
+            for node in ast.walk(tree):
+                self.assertNotIsInstance(node, (ast.Set, ast.SetComp, ast.GeneratorExp, ast.Yield, ast.Global, ast.Nonlocal, ast.Match), name)
+                if isinstance(node, ast.Call) and isinstance(node.func, ast.Name) and node.func.id == "set":
+                    outer = around[id(node)]
+                    self.assertIsInstance(outer, ast.Call, (name, node.lineno))
+                    self.assertIn(outer.func.id, ("sorted", "len"), (name, node.lineno))
+                if isinstance(node, ast.Call):
+                    # A star stands before a name, an attribute off a name, or a literal tuple alone.
+                    for part in node.args:
+                        if isinstance(part, ast.Starred):
+                            self.assertIsInstance(part.value, (ast.Name, ast.Attribute), (name, node.lineno))

@@ -240,6 +240,17 @@ class Plan(unittest.TestCase):
         self.assertEqual(refused(plan, read_way("0 4 4 ; 201 5 4"), ONE, (FAR,), ONE, ONE), ("BadStep", ONE))
         self.assertEqual(refused(plan, read_way("0 4 4 ; 1 5 4 ; 200000001/1000000 5 4"), ONE, (FAR,), ONE, ONE), ("BadStep", ONE))
 
+    def test_steps_are_counted_from_the_first_moment(self):
+        for text, right in (("1000 4 4 ; 1010 5 4", True), ("-1010 4 4 ; -1000 5 4", True), ("-150 4 4 ; 50 5 4", True), ("-150 4 4 ; 51 5 4", False), ("1/2 4 4 ; 401/2 5 4", True),
+                            ("1/2 4 4 ; 201 5 4", False)):
+            way = read_way(text)
+            told = refused(plan, way, ONE, (FAR,), ONE, ONE)
+            self.assertIs(told != ("BadStep", ONE), right, text)
+            if right:
+                self.assertEqual(told, tuple([number(worth(way[0][0]) + n) for n in range(len(told))]))
+        way = read_way("1001/2 0 5 ; 1017/2 8 5")
+        self.assertEqual(plan(way, ONE, (FAR,), TWO, ONE), tuple([number(Fraction(1001, 2) + n) for n in (0, 5, 7)]))
+
     def test_step_and_length(self):
         for step, length, right in ((TWO, TWO, True), (number(2 + TINY), TWO, False), ((1, 2), (1, 2), True), ((1, 2), NOUGHT, False), (NOUGHT, NOUGHT, False), (NOUGHT, TWO, False)):
             self.assertIs(refused(plan, self.WAY, ONE, (FAR,), length, step) != ("BadStep", step), right, (step, length))
