@@ -1,4 +1,5 @@
 """Point 11, guarantee (e): when a thing can have been in a PATCH between two LOOKS, and when it surely was."""
+import itertools
 import random
 import unittest
 from fractions import Fraction
@@ -7,7 +8,7 @@ from crossingstold.cones import can_be_in, earliest, is_surely_in, surely_in, wh
 from crossingstold.moments import moment_of, shifted
 from crossingstold.regions import region_of
 from crossingstold.stretches import both, has, stretches_text
-from crossingstold.unseen import can_touch, paper
+from crossingstold.unseen import can_leave, can_touch, paper
 from crossingstold.ways import during
 from tests.geometry import (
     as_float, far_between, floats, least_on_rim, lies_inside, margin_of_can, margin_of_surely, patch_of, random_patch, random_spot)
@@ -266,6 +267,54 @@ class SurelyIn(unittest.TestCase):
             self.assertEqual(refused(function, ONE, ONE, SPEED, HUGE), ("Apart", (ONE, ONE)))
         self.assertEqual(refused(when_at, ONE, late, SPEED, spot(1, 1)), ("Apart", (ONE, late)))
         self.assertEqual(refused(when_at, ONE, ONE, SPEED, spot(0, 0)), ("Apart", (ONE, ONE)))
+
+
+class JustSo(unittest.TestCase):
+    """Sides askew that are mirrors of whole lengths: what is just come to, a little less and a little more."""
+
+    TURNS = [(Fraction(1), Fraction(0)), (Fraction(3, 5), Fraction(4, 5)), (Fraction(5, 13), Fraction(-12, 13)), (Fraction(-8, 17), Fraction(15, 17)), (Fraction(0), Fraction(1))]
+    # How far the looks are apart, twice how far the side is from them, and how far it is by the side.
+    MIRRORS = [(6, 8, 10), (3, 4, 5), (12, 5, 13), (0, 4, 4), (8, 15, 17)]
+
+    def cases(self):
+        for (cosine, sine), (apart, twice, around), part in itertools.product(self.TURNS, self.MIRRORS, (Fraction(1), Fraction(1, 3))):
+            def turned(x, y):
+                return (cosine * x - sine * y + 2, sine * x + cosine * y - Fraction(1, 2))
+            yield turned, part * apart, part * Fraction(twice, 2), part * around
+
+    def patch(self, turned, *corners):
+        """The PATCH of these corners, turned."""
+        row = [turned(*corner) for corner in corners]
+        first = row.index(min(row))
+        return patch_of(*row[first:], *row[:first])
+
+    def trips(self, turned, apart, around):
+        """Two LOOKS with just the time to go round, a little more, a little less; and which of these."""
+        for speed, more in itertools.product((Fraction(1), Fraction(2, 3)), (0, TINY, -TINY)):
+            time = around / speed + more
+            if time * speed >= apart:
+                yield (look(-1, *turned(0, 0)), look(time - 1, *turned(apart, 0)), number(speed)), more, time
+
+    def test_what_is_just_touched(self):
+        for turned, apart, high, around in self.cases():
+            for low, top in ((-1, 0), (0, 3), (-2, 1)):
+                patch = self.patch(turned, (apart / 2 + low, high), (apart / 2 + low + 2, high), (apart / 2 + 1, high + top + 3))
+                for trip, more, time in self.trips(turned, apart, around):
+                    told, touch = when_can(*trip, patch), can_touch(*trip, patch)
+                    self.assertEqual([told == (), touch is None, paper(*trip, patch) is None], [more < 0, more < 0, more >= 0])
+                    if more == 0:
+                        half = number(time / 2 - 1)
+                        self.assertEqual([told, touch[1]], [((half, True, half, True),), half])
+
+    def test_what_is_just_not_left(self):
+        for turned, apart, high, around in self.cases():
+            patch = self.patch(turned, (-50, -60), (90, -60), (90, high), (-50, high))
+            for trip, more, _ in self.trips(turned, apart, around):
+                surely, left = surely_in(*trip, patch), can_leave(*trip, patch)
+                whole = ((trip[0][0], True, trip[1][0], True),)
+                self.assertEqual([surely == whole, left is None, len(surely)], [more <= 0, more <= 0, 2 if more > 0 else 1])
+                if left is not None:
+                    self.assertEqual([surely[0][0], surely[1][2], has(surely, left[1])], [trip[0][0], trip[1][0], False])
 
 
 class Earliest(unittest.TestCase):
