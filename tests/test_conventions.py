@@ -4,6 +4,10 @@ import itertools
 import unittest
 
 from crossingstold import cones, events, looks, moments, pictures, reasons, regions, rules, stretches, unseen, ways
+from crossingstold.benches import Bench
+from crossingstold.desk import Desk
+from crossingstold.errors import BadPoint
+from crossingstold.keeping import Post
 from tests.helpers import NEVER, NO_FRACTIONS, NO_LENGTHS, NO_MOMENTS, NO_POINTS, Thing, deep, refused
 
 ROOT = (1, 0, -2, 1)
@@ -271,9 +275,18 @@ class WrongValues(unittest.TestCase):
         self.assertEqual(value, before)
 
     def test_objects_and_deep_values(self):
-        for value in (Thing(), deep(60), [deep(59)], {"a": deep(50)}, ("not", deep(50)), ("and", Thing())):
+        own = [Post(WATCH), Bench(WATCH), Desk("watch 0 9\ndeeds"), BadPoint(1), (Post(WATCH), Bench(WATCH)), ((0, 1), Post(WATCH)), Post]
+        for value in (Thing(), deep(60), [deep(59)], {"a": deep(50)}, ("not", deep(50)), ("and", Thing()), *own):
             for function, parameters in CASES:
                 self.check(function, [value, *[parameter[2] for parameter in parameters[1:]]], parameters[0][0], value)
+
+
+    def test_any_value_may_be_asked_of_what_shows(self):
+        trip = (((0, 1), ((2, 1), (1, 1))), ((9, 1), ((3, 1), (1, 1))), (1, 2), PATCH)
+        for value in (*NEVER, Post(WATCH), Bench(WATCH), (SPOT, Post(WATCH)), (Post(WATCH), (1, 1)), (0, Bench(WATCH)), deep(60), (deep(50), deep(50)), [Thing()], Post):
+            for function, values in ((unseen.shows_nearest, (SPOT, SPOT, PATCH)), (unseen.shows_can_touch, trip), (unseen.shows_paper, (*trip[:3], MANY_PATCHES[6])),
+                                     (unseen.shows_can_leave, trip), (looks.shows_slipped, (trip[0], (1, 1), (PATCH,), (1, 1), (20, 1)))):
+                self.assertIs(function(*values, value), False, (function.__name__, value))
 
 
 class Equations(unittest.TestCase):
