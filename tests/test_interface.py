@@ -219,6 +219,13 @@ class Classes(unittest.TestCase):
         desk = importlib.import_module("crossingstold.desk").Desk(text="watch 0 9\ndeeds")
         self.assertEqual(desk.say(line="put van 0 1 2"), "done")
 
+    def test_no_parameter_is_called_post(self):
+        # So nothing can be handed in for which NoPost would have to be raised.
+        words = [word for functions in FUNCTIONS.values() for values in functions.values() for word in values]
+        for _, _, making, _, methods in self.each():
+            words += [*making, *[word for parameters in methods.values() for word in parameters]]
+        self.assertNotIn("post", words)
+
     def test_the_names_of_the_interface(self):
         listed = """
             moments: ascending, between, compared, moment_of, moment_text, read_moment, rounded_down, scaled, shifted, sign_at.

@@ -1,10 +1,9 @@
 """Point 13, guarantee (g): REPORTS and RULES as they come, put right, taken back; what they tell; steps."""
-import inspect
 import itertools
 import random
 import unittest
 
-from crossingstold import benches, desk, journals, keeping
+from crossingstold import benches, desk
 from crossingstold.events import events
 from crossingstold.keeping import Post
 from crossingstold.rules import held, read_rule
@@ -361,13 +360,6 @@ class Equality(unittest.TestCase):
             self.assertFalse(value == post)
         self.assertTrue([post] == [Post(WATCH)])
         self.assertIn(post, (None, 1, Post(WATCH)))
-
-    def test_no_parameter_of_the_interface_is_called_post(self):
-        # So nothing can be handed in for which NoPost would have to be raised.
-        for module in (keeping, benches, journals, desk):
-            for value in vars(module).values():
-                if inspect.isfunction(value) or inspect.isclass(value):
-                    self.assertNotIn("post", inspect.signature(value).parameters)
 
 
 class Model:
